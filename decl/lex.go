@@ -5,6 +5,7 @@ import (
 
 	"cabochon/api"
 	"cabochon/text"
+	"cabochon/tokens"
 )
 
 // Lex is the tokens of s, and the length of s; or where s is first wrong, and how.
@@ -13,7 +14,7 @@ func Lex(s string) ([]api.Token, int, api.Errno) {
 		return nil, api.MaxText, api.ErrFull
 	}
 	var l []api.Token
-	at, err := caught(func() {
+	at, err := tokens.Caught(func() {
 		for i := 0; i < len(s); {
 			if blank(s[i]) {
 				i++
@@ -58,7 +59,7 @@ func behindName(s string, at int) int {
 		end++
 	}
 	if end-at > api.MaxName {
-		fail(at, api.ErrRange)
+		tokens.Fail(at, api.ErrRange)
 	}
 	return end
 }
@@ -73,15 +74,15 @@ func behindBytes(s string, at int) int {
 		end++
 	}
 	if end >= len(s) {
-		fail(at, api.ErrForm)
+		tokens.Fail(at, api.ErrForm)
 	}
 	end++
 	b, is := text.Unquote(s[at:end])
 	if !is {
-		fail(at, api.ErrForm)
+		tokens.Fail(at, api.ErrForm)
 	}
 	if len(b) > api.MaxBytes {
-		fail(at, api.ErrRange)
+		tokens.Fail(at, api.ErrRange)
 	}
 	return end
 }
@@ -100,10 +101,10 @@ func behindInt(s string, at int) int {
 		end++
 	}
 	if end == first || s[first] == '0' {
-		fail(at, api.ErrForm)
+		tokens.Fail(at, api.ErrForm)
 	}
 	if _, is := text.Number(s[at:end]); !is {
-		fail(at, api.ErrRange)
+		tokens.Fail(at, api.ErrRange)
 	}
 	return end
 }
@@ -116,6 +117,6 @@ func behindSign(s string, at int) int {
 	case '{', '}', '(', ')', ',', ':', '?', '=', ';':
 		return at + 1
 	}
-	fail(at, api.ErrForm)
+	tokens.Fail(at, api.ErrForm)
 	return at
 }

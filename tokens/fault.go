@@ -1,4 +1,4 @@
-package decl
+package tokens
 
 import "cabochon/api"
 
@@ -8,10 +8,11 @@ type fault struct {
 	err api.Errno
 }
 
-func fail(at int, err api.Errno) { panic(fault{at, err}) }
+// Fail ends the reading that Caught goes through: what is read is wrong at that place.
+func Fail(at int, err api.Errno) { panic(fault{at, err}) }
 
-// caught goes through a reading, and tells where and how it failed, if it did.
-func caught(reading func()) (at int, err api.Errno) {
+// Caught goes through a reading, and tells where and how it failed, if it did.
+func Caught(reading func()) (at int, err api.Errno) {
 	defer func() {
 		if x := recover(); x != nil {
 			wrong := x.(fault)
